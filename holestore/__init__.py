@@ -1,0 +1,1 @@
+"""Holestore: programs on a memory that is a sliding puzzle."""

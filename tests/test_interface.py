@@ -1,0 +1,63 @@
+"""The interface: its names, their arguments, the files that define them, and the size of these files."""
+
+import ast
+import os
+import unittest
+
+PACKAGE = os.path.join(os.path.dirname(os.path.dirname(os.path.abspath(__file__))), "holestore")
+
+FUNCTIONS = {
+    "webs": {"parting": ["yard"], "two_sided": ["yard"], "pieces": ["yard"], "kind": ["yard", "place", "other"]},
+    "yards": {"slides": ["yard", "standing"], "behind_slide": ["yard", "standing", "slide"],
+              "slides_to": ["yard", "standing", "other"], "count_standings": ["yard", "standing"]},
+}
+
+CLASSES = {
+    "errors": ["StoreError", "BadYard", "BadProgram", "BadLine", "TooMany", "BadStanding", "BadInputs", "BadNumber",
+               "BadPlace", "BadBook", "BadSlide", "NoWay", "BadString"],
+}
+
+
+def text_of(name):
+    with open(os.path.join(PACKAGE, name), encoding="utf-8") as file:
+        return file.read()
+
+
+def defined(name, sort):
+    return {node.name: node for node in ast.parse(text_of(name)).body if isinstance(node, sort)}
+
+
+class Interface(unittest.TestCase):
+
+    def test_functions_stand_in_their_files(self):
+        for module, functions in FUNCTIONS.items():
+            found = defined(module + ".py", ast.FunctionDef)
+            for name, arguments in functions.items():
+                with self.subTest(module=module, name=name):
+                    self.assertEqual([each.arg for each in found[name].args.args], arguments)
+
+    def test_classes_stand_in_their_files(self):
+        for module, names in CLASSES.items():
+            found = defined(module + ".py", ast.ClassDef)
+            self.assertEqual(sorted(found), sorted(names))
+
+
+class Sizes(unittest.TestCase):
+
+    def test_files_and_functions_are_small_and_plain(self):
+        for name in sorted(os.listdir(PACKAGE)):
+            if not name.endswith(".py"):
+                continue
+            with self.subTest(name=name):
+                text = text_of(name)
+                rows = text.split("\n")
+                self.assertTrue(all(character == "\n" or " " <= character <= "~" for character in text))
+                self.assertLess(len(rows), 400)
+                self.assertLessEqual(max(len(row) for row in rows), 120)
+                for node in ast.walk(ast.parse(text)):
+                    if isinstance(node, ast.FunctionDef):
+                        self.assertLessEqual(node.end_lineno - node.lineno + 1, 40)
+
+
+if __name__ == "__main__":
+    unittest.main()
