@@ -1,6 +1,6 @@
 """What yards, places and standings are, and the errors for other values."""
 
-from holestore.errors import BadPlace, BadStanding, BadYard
+from holestore.errors import BadBook, BadNumber, BadPlace, BadStanding, BadYard
 
 
 def is_number(value):
@@ -14,9 +14,14 @@ def is_tuple_of(value, many):
     return isinstance(value, tuple) and len(value) == many
 
 
+def is_from(value, least, most):
+    """Tell whether a value is an integer from least to most."""
+    return is_number(value) and least <= value <= most
+
+
 def is_place(value, places):
     """Tell whether a value is one of so many places."""
-    return is_number(value) and 0 <= value < places
+    return is_from(value, 0, places - 1)
 
 
 def is_tie(value, places):
@@ -67,7 +72,7 @@ def check_yard(yard):
     if not is_tuple_of(yard, 3):
         raise BadYard("yard")
     places, ties, gate = yard
-    if not is_number(places) or not 2 <= places <= 7:
+    if not is_from(places, 2, 7):
         raise BadYard("places")
     if not are_ties(ties, places):
         raise BadYard("ties")
@@ -93,3 +98,27 @@ def check_standing(yard, standing):
         raise BadStanding("a standing has at least one book and one empty place")
     if sorted(books) != list(range(len(books))):
         raise BadStanding("books are numbered from 0, and each lies once")
+
+
+def check_one_empty(yard, standing):
+    """Raise BadStanding for a value that is no standing of the yard with one empty place."""
+    check_standing(yard, standing)
+    if standing.count(None) > 1:
+        raise BadStanding("there is more than one empty place")
+
+
+def count_books(standing):
+    """Return how many books lie at a standing."""
+    return len(standing) - standing.count(None)
+
+
+def check_book(standing, book):
+    """Raise BadBook for a value that is no book of the standing."""
+    if not is_from(book, 0, count_books(standing) - 1):
+        raise BadBook("no book of the standing")
+
+
+def check_number(value, least, most):
+    """Raise BadNumber for a value that is no integer from least to most."""
+    if not is_from(value, least, most):
+        raise BadNumber("no number from those that may be passed")

@@ -22,6 +22,14 @@ def slides_at(ties, standing):
     return sorted(found)
 
 
+def can_slide(ties, standing, slide):
+    """Tell whether a pair of places is a slide that can be done at a standing."""
+    one, other = slide
+    if standing[one] is None or standing[other] is not None:
+        return False
+    return (min(one, other), max(one, other)) in ties
+
+
 def behind_slide(yard, standing, slide):
     """Return the standing behind a slide."""
     check_yard(yard)

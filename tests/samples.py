@@ -12,6 +12,7 @@ PAIR = (2, ((0, 1),), 0)
 SQUARE = (4, ((0, 1), (0, 3), (1, 2), (2, 3)), 0)
 KITE = (4, ((0, 1), (0, 2), (1, 2), (2, 3)), 0)
 HOUSE = (4, ((0, 1), (0, 2), (0, 3), (1, 2), (2, 3)), 0)
+STAR = (4, ((0, 1), (0, 2), (0, 3)), 1)
 # Two triangles that share place 2.
 BOW = (5, ((0, 1), (0, 2), (1, 2), (2, 3), (2, 4), (3, 4)), 2)
 RING_OF_SEVEN = (7, tuple(sorted([(k, k + 1) for k in range(6)] + [(0, 6)])), 0)
@@ -148,3 +149,29 @@ def all_standings_of(places, books):
 def relabelled(ties, order):
     """Return the ties with place k called order[k]."""
     return tuple(sorted([tuple(sorted((order[one], order[other]))) for one, other in ties]))
+
+
+def slow_slides(yard, standing):
+    places, ties, _ = yard
+    return tuple([(one, other) for one in range(places) for other in range(places)
+                  if standing[one] is not None and standing[other] is None
+                  and ((one, other) in ties or (other, one) in ties)])
+
+
+def slow_behind(standing, slide):
+    one, other = slide
+    return tuple([standing[one] if place == other else None if place == one else book
+                  for place, book in enumerate(standing)])
+
+
+def distances(yard, standing):
+    """Return how few slides lead from a standing to each that can come, which is as many as lead back."""
+    far = {standing: 0}
+    waiting = [standing]
+    for here in waiting:
+        for slide in slow_slides(yard, here):
+            behind = slow_behind(here, slide)
+            if behind not in far:
+                far[behind] = far[here] + 1
+                waiting.append(behind)
+    return far

@@ -10,6 +10,17 @@ FUNCTIONS = {
     "webs": {"parting": ["yard"], "two_sided": ["yard"], "pieces": ["yard"], "kind": ["yard", "place", "other"]},
     "yards": {"slides": ["yard", "standing"], "behind_slide": ["yard", "standing", "slide"],
               "slides_to": ["yard", "standing", "other"], "count_standings": ["yard", "standing"]},
+    "rooms": {"room": ["yard", "standing", "book"], "rooms": ["yard", "standing"], "never": ["yard", "standing"],
+              "bar": ["yard", "standing", "book"], "shows_bar": ["yard", "standing", "book", "value"],
+              "is_free": ["yard"]},
+    "orders": {"orders": ["yard"], "all_standings": ["yard", "standing"], "sign": ["yard", "standing"]},
+    "runs": {"run_still": ["books", "program", "inputs", "most"],
+             "run_yard": ["yard", "standing", "program", "inputs", "most"]},
+    "walks": {"fault": ["yard", "standing", "program", "kept"], "carries": ["yard", "standing", "program", "kept"]},
+    "writing": {"barred": ["yard", "standing", "program"], "can_be_kept": ["yard", "standing", "program"],
+                "kept": ["yard", "standing", "program"]},
+    "universals": {"keeps_all": ["yard"], "hardest": ["books"]},
+    "shares": {"share": ["yard", "standing", "program"], "kept_best": ["yard", "standing", "program"]},
 }
 
 CLASSES = {

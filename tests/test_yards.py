@@ -6,7 +6,8 @@ from holestore.errors import BadSlide, BadStanding, BadYard, NoWay, StoreError
 from holestore.yards import behind_slide, count_standings, slides, slides_to
 from tests import samples
 from tests.samples import (ALL_TIED, BOW, HOUSE, KITE, NO_TUPLES, PAIR, PATH, RING_OF_SEVEN, SEVEN, SQUARE,
-                           THREE_BY_FOUR, TRIANGLE, WRONG_STANDINGS, WRONG_YARDS)
+                           THREE_BY_FOUR, TRIANGLE, WRONG_STANDINGS, WRONG_YARDS, distances, slow_behind,
+                           slow_slides)
 
 FULL = (0, 1, 2, 3, 4, 5, None)
 YARDS = (PAIR, PATH, TRIANGLE, SQUARE, KITE, HOUSE, BOW)
@@ -38,32 +39,6 @@ WRONG_SLIDES = NO_TUPLES + [
     "12",
     (10 ** 30, 2),
 ]
-
-
-def slow_slides(yard, standing):
-    places, ties, _ = yard
-    return tuple([(one, other) for one in range(places) for other in range(places)
-                  if standing[one] is not None and standing[other] is None
-                  and ((one, other) in ties or (other, one) in ties)])
-
-
-def slow_behind(standing, slide):
-    one, other = slide
-    return tuple([standing[one] if place == other else None if place == one else book
-                  for place, book in enumerate(standing)])
-
-
-def distances(yard, standing):
-    """Return how few slides lead from a standing to each that can come, which is as many as lead back."""
-    far = {standing: 0}
-    waiting = [standing]
-    for here in waiting:
-        for slide in slow_slides(yard, here):
-            behind = slow_behind(here, slide)
-            if behind not in far:
-                far[behind] = far[here] + 1
-                waiting.append(behind)
-    return far
 
 
 def slow_way(yard, standing, far):
