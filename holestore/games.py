@@ -8,6 +8,12 @@ from heapq import heappop, heappush
 from math import gcd
 
 
+def worth(move, ratio):
+    """Return what a move is worth against a ratio."""
+    top, low = ratio
+    return -top if move[0] is not None else low - top
+
+
 class Game:
     """Choices of moves at moments, and how much each is worth against a ratio.
 
@@ -17,13 +23,9 @@ class Game:
 
     def __init__(self, moments, ratio):
         self.moves = moments.moves
-        self.top, self.low = ratio
+        self.ratio = ratio
         self.choices = [None for move in self.moves]
         self.depths = [0 for move in self.moves]
-
-    def weight(self, move):
-        """Return what a move is worth."""
-        return -self.top if move[0] is not None else self.low - self.top
 
     def chosen(self, mark):
         """Return the move that is chosen at a moment."""
@@ -34,7 +36,7 @@ class Game:
         ahead = [self.depths[mark] for mark in move[1] if self.depths[mark] is not None]
         if not ahead:
             return None
-        return min(ahead) + self.weight(move)
+        return min(ahead) + worth(move, self.ratio)
 
     def choose(self):
         """Choose the deepest moves wherever they are deeper than what is chosen, and tell whether there were any."""
@@ -73,7 +75,7 @@ class Game:
             found[mark] = self.depths[mark] + more
             for back in before.get(mark, []):
                 if found[back] is None:
-                    length = self.depths[mark] + self.weight(self.chosen(back)) - self.depths[back]
+                    length = self.depths[mark] + worth(self.chosen(back), self.ratio) - self.depths[back]
                     heappush(queue, (more + length, back))
         self.depths = found
 
@@ -94,7 +96,10 @@ class Game:
 
 
 def best_choices(moments):
-    """Return (ratio, choices): the greatest worst share of the moments, some course going on for ever, and how."""
+    """Return (ratio, choices, depths): the greatest worst share of the moments, some course going on for ever.
+
+    The choices have it; the depths are those of the game against it: they show that no choices do better.
+    """
     ratio = (0, 1)
     choices = []
     game = Game(moments, ratio)
@@ -104,7 +109,7 @@ def best_choices(moments):
         ratio = worst_ratio(moments, choices)
         game = Game(moments, ratio)
         game.solve()
-    return (ratio, choices)
+    return (ratio, choices, game.depths)
 
 
 def worst_ratio(moments, choices):
@@ -134,6 +139,24 @@ def chosen_moves(moments, choices):
             found[mark] = moments.moves[mark][choices[mark]]
             todo.extend(found[mark][1])
     return found
+
+
+def heights_by(moments, choices, ratio):
+    """Return a dict from the moments to which choices lead to heights by which they do no less than a ratio.
+
+    A height is the most that a course from there ever lacks; no round lacks anything, so that the heights have an end.
+    """
+    moves = chosen_moves(moments, choices)
+    heights = {mark: 0 for mark in moves}
+    changed = True
+    while changed:
+        changed = False
+        for mark, move in moves.items():
+            lacked = max([heights[ahead] for ahead in move[1]], default=0) - worth(move, ratio)
+            if lacked > heights[mark]:
+                heights[mark] = lacked
+                changed = True
+    return heights
 
 
 def fewest_instructions(moves, ticks):

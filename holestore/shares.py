@@ -21,7 +21,7 @@ def share(yard, standing, program):
     moments = moments_of(yard, standing, program)
     if not moments.is_endless:
         return None
-    ratio, _ = best_choices(moments)
+    ratio, _, _ = best_choices(moments)
     return ratio
 
 
@@ -30,6 +30,6 @@ def kept_best(yard, standing, program):
     moments = moments_of(yard, standing, program)
     if not moments.is_endless:
         return kept(yard, standing, program)
-    _, choices = best_choices(moments)
+    _, choices, _ = best_choices(moments)
     moves = chosen_moves(moments, choices)
     return written_out(program, standing, {moments.spots[mark]: moves[mark][0] for mark in moves})

@@ -77,15 +77,20 @@ def first_steps(ties, standing):
     steps = {standing: None}
     row = [standing]
     while row:
-        later = []
-        for here in row:
-            for slide in slides_at(ties, here):
-                behind = moved(here, slide)
-                if behind not in steps:
-                    steps[behind] = (here, slide)
-                    later.append(behind)
-        row = later
+        row = next_row(ties, steps, row)
     return steps
+
+
+def next_row(ties, steps, row):
+    """Return the list of the standings that are first met one slide behind those of a row, and put them into steps."""
+    later = []
+    for here in row:
+        for slide in slides_at(ties, here):
+            behind = moved(here, slide)
+            if behind not in steps:
+                steps[behind] = (here, slide)
+                later.append(behind)
+    return later
 
 
 def way_back(steps, standing):

@@ -1,7 +1,11 @@
 """Slow plain readings of the document about programs, for the tests."""
 
+from math import gcd
+
 from tests.samples import slow_behind, slow_slides
 
+MILLION = 1000000
+ENDLESS = float("inf")
 WITH_BOOKS = ("get", "plus", "minus", "set")
 
 
@@ -147,8 +151,14 @@ def moments(yard, standing, program):
 
 def is_share(yard, standing, program, ratio):
     """Tell whether a ratio is the greatest worst share: heights and depths of point 14 show it from both sides."""
-    found = moments(yard, standing, program)
     start = (settle(program, 0), standing)
+    heights, depths = all_heights_and_depths(yard, standing, program, ratio)
+    return start in heights and start in depths
+
+
+def all_heights_and_depths(yard, standing, program, ratio):
+    """Return the least heights and depths of point 14, as dicts, of all moments that have them."""
+    found = moments(yard, standing, program)
     top, low = ratio
     most = (len(found) + 1) * low
     heights = {here: 0 for here in found}
@@ -156,18 +166,57 @@ def is_share(yard, standing, program, ratio):
     raise_all(found, heights, most, lambda moves: min(
         [max([heights.get(each, 0) for each in behind]) + top - low * done for done, behind in moves]))
     raise_all(found, depths, most, lambda moves: max(
-        [min([depths.get(each, most + 1) for each in behind]) - top + low * done for done, behind in moves]))
-    return heights[start] <= most and depths[start] <= most
+        [min([depths.get(each, ENDLESS) for each in behind]) - top + low * done for done, behind in moves]))
+    return tuple([{here: number for here, number in numbers.items() if number < ENDLESS}
+                  for numbers in (heights, depths)])
+
+
+def paper_order(row):
+    """Return what rows of a paper are sorted by."""
+    return (row[0], [-1 if item is None else item for item in row[1]])
+
+
+def told(numbers):
+    """Return the rows of a paper that tell the numbers of moments."""
+    return tuple(sorted([(at, here, number) for (at, here), number in numbers.items()], key=paper_order))
+
+
+def is_paper(yard, standing, program, value):
+    """Tell whether a value is a paper of point 14, its rows being triples of an instruction, a standing, a number."""
+    found = moments(yard, standing, program)
+    start = (settle(program, 0), standing)
+    (top, low), heights, depths = value
+    if not 0 < top <= low <= MILLION or gcd(top, low) != 1:
+        return False
+    for rows in (heights, depths):
+        spots = [row[:2] for row in rows]
+        if start not in spots or len(set(spots)) < len(spots) or not set(spots) <= set(found):
+            return False
+        if list(rows) != sorted(rows, key=paper_order) or not all(0 <= row[2] <= MILLION for row in rows):
+            return False
+    heights = {row[:2]: row[2] for row in heights}
+    depths = {row[:2]: row[2] for row in depths}
+    for here, height in heights.items():
+        # The end is taken for a height of 0, and a moment that is not told for one that is too great.
+        if not any(all((0 if each[0] == -1 else heights.get(each, 9 * MILLION)) <= height - top + low * done
+                       for each in behind) for done, behind in found[here]):
+            return False
+    for here, depth in depths.items():
+        if not all(any(each in depths and depths[each] <= depth + top - low * done for each in behind)
+                   for done, behind in found[here]):
+            return False
+    return True
 
 
 def raise_all(found, numbers, most, needed):
-    """Raise numbers of moments to what they need till nothing changes; one above the most is as good as endless."""
+    """Raise numbers of moments to what they need till nothing changes; one above the most has no end."""
     changed = True
     while changed:
         changed = False
         for here in found:
-            if numbers[here] <= most and needed(found[here]) > numbers[here]:
-                numbers[here] = min(needed(found[here]), most + 1)
+            number = needed(found[here])
+            if number > numbers[here]:
+                numbers[here] = number if number <= most else ENDLESS
                 changed = True
 
 

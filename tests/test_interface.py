@@ -21,6 +21,13 @@ FUNCTIONS = {
                 "kept": ["yard", "standing", "program"]},
     "universals": {"keeps_all": ["yard"], "hardest": ["books"]},
     "shares": {"share": ["yard", "standing", "program"], "kept_best": ["yard", "standing", "program"]},
+    "papers": {"share_paper": ["yard", "standing", "program"],
+               "shows_share": ["yard", "standing", "program", "value"]},
+    "requests": {"fewest_slides": ["yard", "standing", "asks"], "nearest_slides": ["yard", "standing", "asks"],
+                 "farthest_ask": ["yard", "standing"]},
+    "gates": {"free_gates": ["yard"], "gates_for": ["yard", "standing", "program"],
+              "best_gate": ["yard", "standing", "program"], "freeing": ["yard"], "needed_ties": ["yard"]},
+    "holes": {"count_classes": ["yard", "books"], "most_books": ["yard"]},
 }
 
 CLASSES = {
