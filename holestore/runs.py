@@ -15,7 +15,7 @@ class Run:
         self.landing = landings(program)
         self.at = self.landing[0]
         self.hand = 0
-        self.held = [0] * books
+        self.contents = [0] * books
         self.inputs = inputs
         self.asked = 0
         self.said = []
@@ -48,13 +48,13 @@ class Run:
     def use_book(self, word, book):
         """Do an instruction that names a book."""
         if word == "get":
-            self.hand = self.held[book]
+            self.hand = self.contents[book]
         if word == "plus":
-            self.hand = self.hand + self.held[book]
+            self.hand = self.hand + self.contents[book]
         if word == "minus":
-            self.hand = self.hand - self.held[book]
+            self.hand = self.hand - self.contents[book]
         if word == "set":
-            self.held[book] = self.hand
+            self.contents[book] = self.hand
 
     def next_input(self):
         """Return the next input, 0 if there is none."""

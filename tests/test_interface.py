@@ -28,12 +28,28 @@ FUNCTIONS = {
     "gates": {"free_gates": ["yard"], "gates_for": ["yard", "standing", "program"],
               "best_gate": ["yard", "standing", "program"], "freeing": ["yard"], "needed_ties": ["yard"]},
     "holes": {"count_classes": ["yard", "books"], "most_books": ["yard"]},
+    "yardtexts": {"write_yard": ["yard"], "read_yard": ["text"], "write_standing": ["yard", "standing"],
+                  "read_standing": ["yard", "text"], "write_program": ["books", "program"],
+                  "read_program": ["books", "text"]},
+    "sessions": {"read_session": ["text"], "first_unlike": ["text"]},
 }
 
 CLASSES = {
     "errors": ["StoreError", "BadYard", "BadProgram", "BadLine", "TooMany", "BadStanding", "BadInputs", "BadNumber",
                "BadPlace", "BadBook", "BadSlide", "NoWay", "BadString"],
+    "benches": ["Store"],
+    "desks": ["Desk"],
+    "sessions": ["Session"],
 }
+
+METHODS = {
+    "Store": {"__init__": ["yard", "standing"], "slide": ["one", "other"], "read": [], "write": ["value"],
+              "bring": ["book"], "tick": [], "standing": [], "held": [], "ways": []},
+    "Desk": {"__init__": [], "take_yard": ["text", "line"], "take_program": ["text"], "say": ["line"]},
+    "Session": {"__init__": ["text", "line"], "say": ["line"], "text": [], "log": []},
+}
+
+PROPERTIES = {"Store": ["tick", "standing", "held", "ways"], "Desk": [], "Session": ["log"]}
 
 
 def text_of(name):
@@ -58,6 +74,15 @@ class Interface(unittest.TestCase):
         for module, names in CLASSES.items():
             found = defined(module + ".py", ast.ClassDef)
             self.assertEqual(sorted(found), sorted(names))
+
+    def test_methods_stand_in_their_classes(self):
+        for module in ("benches", "desks", "sessions"):
+            for name, node in defined(module + ".py", ast.ClassDef).items():
+                found = {each.name: each for each in node.body if isinstance(each, ast.FunctionDef)}
+                for method, arguments in METHODS[name].items():
+                    with self.subTest(name=name, method=method):
+                        self.assertEqual([each.arg for each in found[method].args.args], ["self"] + arguments)
+                self.assertEqual([each for each in found if found[each].decorator_list], PROPERTIES[name])
 
 
 class Sizes(unittest.TestCase):
